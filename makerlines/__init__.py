@@ -1,0 +1,1 @@
+"""Makerlines: half-made things in chains of calls."""
