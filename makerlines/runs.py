@@ -28,7 +28,7 @@ def kept_program(kind, rows):
 
 def is_row(kind, ahead, row):
     """Tell whether any object is a row of a program, behind these rows."""
-    if not is_list(row) or not 1 <= len(row) <= 3:
+    if not is_list(row) or len(row) == 0:
         return False
     if len(row) == 1:
         return row[0] == "make"

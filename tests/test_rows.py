@@ -75,6 +75,12 @@ class BadRows(unittest.TestCase):
         for thing in [x for x in samples.any_objects() if x not in ("a", "make")]:
             self.assert_item(("label", 0, thing))
 
+    def test_words_of_one_and_of_eight_letters(self):
+        rows = [("make",), ("part", 0, "z"), ("part", 1, "abcdefgh")]
+        self.assertEqual(Run(samples.rich(), rows).things()[0], ("maker", 0, [None, [], ["z", "abcdefgh"]]))
+        for word in ("abcdefghi", "A", "a1", "a b", "", "\u00e4", "a\n"):
+            self.assert_item(("part", 0, word))
+
     def test_the_first_row_makes(self):
         self.assert_bad([("wipe", 0)], 0)
         self.assert_bad([("wipe", -1), ("make",)], 0)

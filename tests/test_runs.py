@@ -252,6 +252,14 @@ class Asked(unittest.TestCase):
             self.assertIs(caught.exception.place, thing)
         self.assertEqual(self.run_of_all.made(2), ["z", [], []])
 
+    def test_true_is_not_the_number_of_a_row(self):
+        run = Run(samples.shares(), [MAKE, ("build", 0)])
+        self.assertEqual(run.made(1), [[]])
+        for ask in (lambda: run.made(True), lambda: run.one(True, 1, "a"), lambda: run.one(1, True, "a")):
+            with self.assertRaises(BadPlace) as caught:
+                ask()
+            self.assertIs(caught.exception.place, True)
+
     def test_one_bad_places(self):
         bad_rows = [*samples.other_than(0, 1), 4, 5, 7, -1, -7, "0"]
         bad_fields = [*samples.any_objects(), "name", "tag", "label", ["tags"]]

@@ -85,6 +85,12 @@ class BadTexts(unittest.TestCase):
         self.assert_bad("\n", 1)
         self.assert_bad("\n" + RICH_TEXT, 1)
 
+    def test_no_text(self):
+        for thing in [x for x in samples.any_objects() if not isinstance(x, str)]:
+            with self.assertRaises(BadText) as caught:
+                Kind.of_text(thing)
+            self.assertEqual(caught.exception.line, 1)
+
     def test_last_line_without_a_line_feed(self):
         self.assert_bad(RICH_TEXT[:-1], len(LINES))
         self.assert_bad("modes 1", 1)
