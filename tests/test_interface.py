@@ -1,7 +1,7 @@
 import inspect
 import unittest
 
-from makerlines import errors, kinds, runs
+from makerlines import errors, kinds, likes, orders, runs, wishes, yards
 
 METHODS = {
     kinds.Kind: {
@@ -31,11 +31,40 @@ METHODS = {
         "one": "(self, i, j, field)",
         "is_onward": "(self)",
     },
+    yards.Yard: {
+        "__init__": "(self, kind)",
+        "make": "(self)",
+        "undo": "(self)",
+        "run": "(self)",
+    },
+    yards.Thing: {
+        "call": "(self, name, word=None)",
+        "look": "(self)",
+    },
+}
+FUNCTIONS = {
+    runs: {"own_things": "(kind, rows)"},
+    wishes: {
+        "is_broken": "(wish, run)",
+        "judge": "(kind, wish, callers='forks')",
+        "is_closed": "(kind, wish, callers, standings)",
+        "mends": "(kind, wish, callers='forks')",
+    },
+    likes: {
+        "alike": "(one, other, callers='forks')",
+        "is_idle": "(kind, name, callers='forks')",
+        "styles": "(kind)",
+        "either": "(kind, one, other)",
+    },
+    orders: {
+        "freest": "(kind, rules=())",
+        "is_good": "(kind, rules, names)",
+    },
 }
 
 
 class Interface(unittest.TestCase):
-    """The section "The interface", for errors.py, kinds.py and runs.py."""
+    """The section "The interface"."""
 
     def test_methods_stand_in_the_class_itself(self):
         for owner, methods in METHODS.items():
@@ -51,9 +80,17 @@ class Interface(unittest.TestCase):
     def test_each_name_is_defined_in_its_file(self):
         self.assertEqual(kinds.Kind.__module__, "makerlines.kinds")
         self.assertEqual(runs.Run.__module__, "makerlines.runs")
-        self.assertEqual(runs.own_things.__module__, "makerlines.runs")
+        self.assertEqual(yards.Yard.__module__, "makerlines.yards")
+        self.assertEqual(yards.Thing.__module__, "makerlines.yards")
         self.assertEqual(errors.MakerError.__module__, "makerlines.errors")
-        self.assertEqual(str(inspect.signature(runs.own_things)), "(kind, rows)")
+
+    def test_each_function_is_defined_in_its_file(self):
+        for module, functions in FUNCTIONS.items():
+            for name, signature in functions.items():
+                with self.subTest(name):
+                    function = getattr(module, name)
+                    self.assertEqual((function.__name__, function.__module__), (name, module.__name__))
+                    self.assertEqual(str(inspect.signature(function)), signature)
 
     def test_attributes_are_set_when_the_object_is_made(self):
         kind = kinds.Kind([("a", "many", False)], [("z", "self", [0, 1], [], [])], modes=2)
