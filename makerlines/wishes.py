@@ -27,12 +27,10 @@ def is_other_than_own(run, things):
     """Tell whether some row of a run hands something other than in the own reading."""
     for k, own in enumerate(own_things(run.kind, run.rows())):
         thing = things[k]
-        if thing is None or own is None:
-            if thing != own:
-                return True
-        elif thing[0] != own[0]:
+        # A row of one call hands a maker, or a product, in both readings if it hands anything.
+        if (thing is None) != (own is None):
             return True
-        elif thing[0] == "product" and run.made(k) != own[1]:
+        if own is not None and own[0] == "product" and run.made(k) != own[1]:
             return True
     return False
 
@@ -86,9 +84,7 @@ def mends(kind, wish, callers="forks"):
     check_wish(wish, WISHES[:2])
     check_callers(callers)
     found = [[]]
-    for field, (name, sort, need) in enumerate(kind.fields()):
-        if sort == "one" and wish == "steady":
-            continue
+    for name, sort, need in kind.fields():
         # A place matters in its own field alone, so least sets are made of those of the fields.
         least = least_sets(kind, wish, callers, name)
         found = [[*places, *chosen] for places in found for chosen in least]

@@ -60,14 +60,10 @@ class Thing:
             raise BadThing()
         if name not in yard.kind:
             raise UnknownCall(name)
-        if yard.kind.takes(name):
-            row = (name, self.number, word)
-            is_right = is_word(word)
-        else:
-            row = (name, self.number)
-            is_right = word is None
+        is_right = is_word(word) if yard.kind.takes(name) else word is None
         if not is_right:
             raise BadWord(word)
+        row = (name, self.number) if word is None else (name, self.number, word)
         if yard.bench.next_mode(row) == -1:
             raise Refused()
         return yard.put_row(row)

@@ -1,6 +1,7 @@
 import random
 import unittest
 
+import exact
 import samples
 import trials
 from makerlines.errors import BadCallers, BadKind, BadPlace, UnknownCall
@@ -62,6 +63,71 @@ class Alike(unittest.TestCase):
         for one, other in list(pairs_of_kinds(24))[::4]:
             for callers in CALLERS:
                 self.assert_fewest(one, other, callers, 5 if callers == "onward" else 4)
+
+    def test_programs_of_makers_with_parts_of_their_own(self):
+        found = {}
+        for seed in range(60):
+            rng = random.Random(seed)
+            one = trials.role_kind(rng)
+            other = trials.twin_of(rng, one)
+            for callers in CALLERS:
+                told = alike(one, other, callers)
+                calls = len(told[1]) - 1 if told[0] == "rows" else None
+                fewest, is_found = exact.fewest_calls(one, other, callers, 6, limit=600)
+                found[callers, calls] = True
+                if is_found:
+                    self.assertEqual(calls, fewest, (one.text(), other.text(), callers))
+                    self.assertNotEqual(trials.shown(one, told[1]), trials.shown(other, told[1]))
+                else:
+                    self.assertTrue(calls is None or calls >= fewest, (one.text(), other.text(), callers))
+        for callers in CALLERS:
+            for calls in (None, 2, 3, 4):
+                self.assertIn((callers, calls), found)
+
+    def test_programs_in_which_modes_alone_count(self):
+        found = {}
+        for seed in range(250):
+            rng = random.Random(seed)
+            one = trials.plain_kind(rng)
+            other = trials.twin_of(rng, one)
+            for callers in CALLERS:
+                told = alike(one, other, callers)
+                calls = len(told[1]) - 1 if told[0] == "rows" else None
+                fewest, is_found = exact.fewest_calls(one, other, callers, 5, limit=400)
+                found[callers, calls] = True
+                if is_found:
+                    self.assertEqual(calls, fewest, (one.text(), other.text(), callers))
+                    self.assertNotEqual(trials.shown(one, told[1]), trials.shown(other, told[1]))
+                else:
+                    self.assertTrue(calls is None or calls >= fewest, (one.text(), other.text(), callers))
+        for calls in (None, 1, 2, 3):
+            self.assertIn(("forks", calls), found)
+
+    def test_a_call_on_the_same_maker_in_one_kind_alone(self):
+        calls = [("step", "self", [1, -1], [], []), ("end", "last", [0, -1], [], [])]
+        one = Kind([("a", "one", False)], [("fork", "self", [0, -1], [], []), *calls], modes=2)
+        other = Kind([("a", "one", False)], [("fork", "new", [0, -1], [], []), *calls], modes=2)
+        for pair in ((one, other), (other, one)):
+            self.assertEqual(self.assert_fewest(*pair, "forks", 4), 4)
+            self.assertEqual(alike(*pair, "onward"), ("alike",))
+
+    def test_contents_that_differ_by_fewer_rows_than_what_is_let_in(self):
+        calls = [
+            ("add", "self", [0, 0, 0], [("add", "a")], []), ("on", "self", [1, 2, 2], [], []),
+            ("build", "last", [0, 1, 2], [], ["a"]),
+        ]
+        one = Kind([("a", "many", False)], calls, modes=3)
+        other = changed(one.own("build", "a"), "on", moves=[1, 2, -1])
+        for callers in CALLERS:
+            self.assertEqual(alike(one, changed(one, "on", moves=[1, 2, -1]), callers),
+                             ("rows", [MAKE, ("on", 0), ("on", 1), ("on", 2)]))
+            told = alike(one, other, callers)
+            self.assertEqual((told[0], len(told[1])), ("rows", 3))
+            self.assertNotEqual(trials.shown(one, told[1]), trials.shown(other, told[1]))
+            late = changed(other, "on", moves=[1, -1, -1])
+            self.assertEqual(self.assert_fewest(one, late, callers, 3), 3)
+            early = changed(other, "on", moves=[-1, -1, -1])
+            self.assertEqual(alike(one, early, callers), ("rows", [MAKE, ("on", 0)]))
 
     def test_a_kind_is_like_itself(self):
         for kind in (samples.shares(), samples.hands_new(), samples.named(), samples.rich()):
@@ -178,6 +244,20 @@ class IsIdle(unittest.TestCase):
                 self.assertIs(told, not self.differs(kind, name, callers, 4), (kind.text(), name, callers))
                 found[callers, told] = True
         self.assertEqual(len(found), 4)
+
+    def test_programs_of_makers_with_parts_of_their_own(self):
+        found = {}
+        for seed in range(30):
+            kind = trials.role_kind(random.Random(seed))
+            for name in kind:
+                if kind[name][1] != "last":
+                    for callers in CALLERS:
+                        told = is_idle(kind, name, callers)
+                        fewest, is_found = exact.fewest_calls(kind, kind, callers, 5, idle=name, limit=200)
+                        found[told, is_found] = True
+                        self.assertFalse(told and is_found, (kind.text(), name, callers, fewest))
+        self.assertIn((True, False), found)
+        self.assertIn((False, True), found)
 
     def test_a_call_without_deeds(self):
         kind = Kind([("a", "many", False)], [
@@ -309,7 +389,7 @@ class Either(unittest.TestCase):
 
     def test_all_rows_of_few_calls(self):
         found = {}
-        for seed in range(40):
+        for seed in range(80):
             kind = trials.small_kind(random.Random(seed), calls=(2, 3), modes=(1, 3))
             going_on = [name for name in kind if kind[name][1] != "last"]
             for one in going_on:
@@ -347,6 +427,21 @@ class Either(unittest.TestCase):
             self.assertEqual(len(told[1]), 3)
             self.assert_exchange(kind, told, *names)
         self.assertEqual(either(kind, "strike", "strike"), ("alike",))
+
+    def test_a_clear_on_either_side_of_an_add(self):
+        kind = Kind(samples.SHARES_FIELDS, [*samples.SHARES_CALLS, ("empty", "self", [0], [("clear", "a")], [])])
+        for names in (("add", "empty"), ("empty", "add")):
+            told = either(kind, *names)
+            self.assertEqual(len(told[1]), 3)
+            self.assert_exchange(kind, told, *names)
+        self.assertEqual(either(kind, "empty", "empty"), ("alike",))
+        # A last call that clears, or only clears in between, leaves nothing to be seen.
+        shut = changed(kind, "build", deeds=[("clear", "a")])
+        self.assertEqual(either(shut, "add", "empty"), ("alike",))
+        self.assertEqual(either(shut, "add", "add"), ("alike",))
+        whole = changed(kind, "add", deeds=[("clear", "a"), ("add", "a")])
+        self.assertEqual(len(either(whole, "add", "add")[1]), 3)
+        self.assertEqual(either(changed(whole, "empty", deeds=[]), "add", "empty"), ("alike",))
 
     def test_unlike_fields_are_alike(self):
         kind = Kind([("a", "one", False), ("b", "many", False)], [

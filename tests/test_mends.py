@@ -34,6 +34,11 @@ def least_sets(kind, wish, callers):
     return found
 
 
+def is_small(kind, wish, callers):
+    verdict, told = judge(without(kind, places(kind)), wish, callers)
+    return verdict == "broken" or len(told) < 300
+
+
 class Mends(unittest.TestCase):
     """[26]"""
 
@@ -51,6 +56,37 @@ class Mends(unittest.TestCase):
         self.assertIn(("own", "forks", 0), found)
         self.assertIn(("steady", "forks", 2), found)
         self.assertIn(("steady", "onward", 1), found)
+
+    def test_kinds_of_makers_with_parts_of_their_own(self):
+        found = {}
+        for seed in range(90):
+            kind = trials.role_kind(random.Random(seed))
+            for wish in WISHES:
+                for callers in CALLERS:
+                    if len(places(kind)) <= 4 and is_small(kind, wish, callers):
+                        told = mends(kind, wish, callers)
+                        found[wish, callers, min(len(told), 2)] = True
+                        self.assertEqual(sorted(told), sorted(least_sets(kind, wish, callers)), kind.text())
+        for callers in CALLERS:
+            # With no list shared no product changes, so there is always a set for "steady".
+            self.assertNotIn(("steady", callers, 0), found)
+            self.assertIn(("steady", callers, 1), found)
+            self.assertIn(("steady", callers, 2), found)
+            self.assertIn(("own", callers, 0), found)
+            self.assertIn(("own", callers, 1), found)
+
+    def test_three_makers_count(self):
+        """Only a mode of its own lets one bring the word, one take it out and one make the product."""
+        kind = Kind([("a", "many", False)], [
+            ("fork", "new", [1, 2, -1], [], ["a"]),
+            ("add", "self", [0, -1, -1], [("add", "a")], []),
+            ("strike", "self", [-1, 1, -1], [("strike", "a")], []),
+            ("share", "last", [-1, -1, 2], [], ["a"]),
+        ], modes=3)
+        for wish in WISHES:
+            self.assertEqual(sorted(mends(kind, wish)), sorted(least_sets(kind, wish, "forks")))
+        self.assertEqual(sorted(mends(kind, "steady")), [[("fork", "a")], [("share", "a")]])
+        self.assertEqual(mends(kind, "own"), [])
 
     def test_none_are_needed_where_the_wish_holds(self):
         for callers in CALLERS:

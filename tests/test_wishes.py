@@ -291,7 +291,10 @@ class Standings(unittest.TestCase):
 
     def test_by_real_makers(self):
         found = {}
-        for kind in samples_of_kinds():
+        parted = [("fork", "new", [0], [], []), ("fresh", "self", [0], [("fresh", "a")], []), *samples.SHARES_CALLS]
+        kinds = [Kind(samples.SHARES_FIELDS, parted), Kind(samples.SHARES_FIELDS, parted).own("build", "a")]
+        kinds += [trials.role_kind(random.Random(seed)) for seed in range(40)]
+        for kind in [*samples_of_kinds(), *kinds]:
             for wish in WISHES:
                 for callers in CALLERS:
                     verdict, told = judge(kind, wish, callers)
@@ -352,7 +355,7 @@ class IsClosed(unittest.TestCase):
         for kind, wish, callers, told in self.kinds_that_hold():
             for at in range(len(told)):
                 for bent in bends(told[at]):
-                    if rng.random() < 0.3:
+                    if rng.random() < 0.12:
                         standings = [*told[:at], bent, *told[at + 1:]]
                         self.assertIs(is_closed(kind, wish, callers, standings), False, bent)
 
@@ -370,6 +373,7 @@ class IsClosed(unittest.TestCase):
         for kind in samples_of_kinds():
             for wish in WISHES:
                 if judge(kind, wish)[0] == "broken":
+                    self.assertIs(is_closed(kind, wish, "forks", judge(kind, wish)[1]), False)
                     holding = judge(samples.hands_new(()), "own")[1]
                     self.assertIs(is_closed(kind, wish, "forks", holding), False)
                     self.assertIs(is_closed(kind, wish, "forks", []), False)

@@ -56,6 +56,33 @@ def twin_of(rng, kind):
     return Kind(kind.fields(), calls, modes=kind.modes)
 
 
+def role_kind(rng):
+    """A kind with one list whose calls are let in in few modes each, so that several makers have parts of their own."""
+    modes = rng.choice([2, 3, 3, 4])
+    names = "pqrstu"[:rng.randint(4, 6)]
+    forks = rng.choice([1, 1, 2])
+    calls = []
+    for at, name in enumerate(names):
+        moves = [-1] * modes
+        for mode in rng.sample(range(modes), rng.choice([1, 2, modes] if at < forks else [1, 1, 2])):
+            moves[mode] = rng.randrange(modes) if at < forks or rng.random() < 0.3 else mode
+        hand = "new" if at < forks else "last" if name == names[-1] else rng.choice(["self", "self", "new", "last"])
+        deeds = [] if hand == "last" or at < forks else rng.choice([["add"], ["strike"], ["clear"], ["fresh", "add"]])
+        same = [] if hand == "self" or rng.random() < 0.15 else ["a"]
+        calls.append((name, hand, moves, [("add", "a")] if at == forks else [(deed, "a") for deed in deeds], same))
+    return Kind([("a", "many", False)], calls, modes=modes)
+
+
+def plain_kind(rng):
+    """A kind of three calls in which modes alone count."""
+    modes = rng.choice([2, 3])
+    calls = [
+        (name, hand, [rng.choice([-1, *range(modes)]) for _ in range(modes)], [], [])
+        for name, hand in zip("pqr", [rng.choice(["self", "new"]), rng.choice(["self", "new", "last"]), "last"])
+    ]
+    return Kind([("a", "one", False)], calls, modes=modes)
+
+
 def programs(kind, many, onward=False, words="xy"):
     """All programs of just this many rows, those of onward callers alone if they are asked for."""
     if many == 0:
