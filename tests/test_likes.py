@@ -161,6 +161,15 @@ class Alike(unittest.TestCase):
         self.assertEqual(self.assert_fewest(one, fresh, "onward", 4), 3)
         self.assertEqual(self.assert_fewest(fresh, one.own("build", "a"), "forks", 4), None)
 
+    def test_a_product_that_shares_a_fresh_list_in_one_kind(self):
+        one = Kind([("a", "many", False)], [
+            ("strike", "self", [0], [("strike", "a")], []),
+            ("build", "last", [0], [("fresh", "a"), ("add", "a")], ["a"]),
+        ])
+        for pair in ((one, one.own("build", "a")), (one.own("build", "a"), one)):
+            for callers in CALLERS:
+                self.assertEqual(self.assert_fewest(*pair, callers, 4), 3)
+
     def test_a_row_aside_counts(self):
         """In one kind, and not in the other one, a fork is the maker itself, which then has a list of its own."""
         calls = [

@@ -43,7 +43,7 @@ def twin_of(rng, kind):
         which = rng.choice(["hand", "hand", "same", "move", "fresh", "order"])
         if which == "hand" and hand != "last":
             hand = "new" if hand == "self" else "self"
-            same = [] if hand == "self" else many
+            same = [] if hand == "self" else [field for field in many if rng.random() < 0.7]
         if which == "same" and hand != "self":
             same = [field for field in many if rng.random() < 0.5]
         if which == "move":
