@@ -7,6 +7,8 @@ place of the place where the step shows what is looked for.
 
 from makerlines.marks import WORDS
 
+# The line of the product, that of who brings the word, that of who takes it out, and, of two
+# kinds, one that is at the maker of another line in one of them alone.
 MOST_IN_VIEW = 4
 
 

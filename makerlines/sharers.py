@@ -7,6 +7,7 @@ of them only the modes; and a maker that can be kept in view is never left out o
 
 from makerlines.marks import acts_in, marked, touched
 
+# Beside the first line there are that of who brings the word and that of who takes it out.
 MOST_OTHERS = 2
 MOST_SHARERS = 3
 KEPT = -1

@@ -64,6 +64,18 @@ class Alike(unittest.TestCase):
             for callers in CALLERS:
                 self.assert_fewest(one, other, callers, 5 if callers == "onward" else 4)
 
+    def assert_as_exact(self, one, other, callers, most, limit):
+        """What is told is what a search through all programs tells, as far as it gets; the number of calls or None."""
+        told = alike(one, other, callers)
+        calls = len(told[1]) - 1 if told[0] == "rows" else None
+        fewest, is_found = exact.fewest_calls(one, other, callers, most, limit=limit)
+        if is_found:
+            self.assertEqual(calls, fewest, (one.text(), other.text(), callers))
+            self.assertNotEqual(trials.shown(one, told[1]), trials.shown(other, told[1]))
+        else:
+            self.assertTrue(calls is None or calls >= fewest, (one.text(), other.text(), callers))
+        return calls
+
     def test_programs_of_makers_with_parts_of_their_own(self):
         found = {}
         for seed in range(60):
@@ -71,15 +83,8 @@ class Alike(unittest.TestCase):
             one = trials.role_kind(rng)
             other = trials.twin_of(rng, one)
             for callers in CALLERS:
-                told = alike(one, other, callers)
-                calls = len(told[1]) - 1 if told[0] == "rows" else None
-                fewest, is_found = exact.fewest_calls(one, other, callers, 6, limit=600)
+                calls = self.assert_as_exact(one, other, callers, 6, 600)
                 found[callers, calls] = True
-                if is_found:
-                    self.assertEqual(calls, fewest, (one.text(), other.text(), callers))
-                    self.assertNotEqual(trials.shown(one, told[1]), trials.shown(other, told[1]))
-                else:
-                    self.assertTrue(calls is None or calls >= fewest, (one.text(), other.text(), callers))
         for callers in CALLERS:
             for calls in (None, 2, 3, 4):
                 self.assertIn((callers, calls), found)
@@ -91,15 +96,8 @@ class Alike(unittest.TestCase):
             one = trials.plain_kind(rng)
             other = trials.twin_of(rng, one)
             for callers in CALLERS:
-                told = alike(one, other, callers)
-                calls = len(told[1]) - 1 if told[0] == "rows" else None
-                fewest, is_found = exact.fewest_calls(one, other, callers, 5, limit=400)
+                calls = self.assert_as_exact(one, other, callers, 5, 400)
                 found[callers, calls] = True
-                if is_found:
-                    self.assertEqual(calls, fewest, (one.text(), other.text(), callers))
-                    self.assertNotEqual(trials.shown(one, told[1]), trials.shown(other, told[1]))
-                else:
-                    self.assertTrue(calls is None or calls >= fewest, (one.text(), other.text(), callers))
         for calls in (None, 1, 2, 3):
             self.assertIn(("forks", calls), found)
 
