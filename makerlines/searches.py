@@ -22,7 +22,7 @@ def explore(walk, most=None):
     done = 0
     while len(level) > 0 and done != most:
         further = []
-        for place in level:
+        for place in list(level):
             for label, reached in walk.ways(place):
                 if reached is None:
                     return [*labels_to(origins, place), label], list(origins)

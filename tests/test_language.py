@@ -27,6 +27,10 @@ CALLED_BUILTINS = {
     "list", "tuple", "dict", "set", "isinstance", "ord", "repr", "any", "all", "divmod", "iter",
 }
 CLASS_METHODS = {"__init__", "__eq__", "__len__", "__iter__", "__contains__", "__getitem__"}
+CHANGING_METHODS = {
+    "append", "clear", "extend", "insert", "pop", "remove", "reverse", "setdefault", "update", "sort", "add", "discard",
+}
+COMPREHENSIONS = (ast.ListComp, ast.DictComp, ast.SetComp, ast.GeneratorExp)
 
 
 def nodes(*kinds):
@@ -130,6 +134,79 @@ class Language(unittest.TestCase):
         self.assertLessEqual(stored & builtin, {"index", "count", "title"})
         read = {node.attr for _path, node in nodes(ast.Attribute) if isinstance(node.ctx, ast.Load)}
         self.assertLessEqual(read, methods | stored | builtin)
+
+    def test_what_a_loop_walks_is_not_changed_in_it(self):
+        """L23"""
+        for path, function in nodes(ast.FunctionDef):
+            self.assertEqual(changed_in_loops(function), [], f"{path} {function.name}")
+
+    def test_a_change_in_a_loop_is_seen(self):
+        for walked, change, given in (
+            ("xs", "xs.append(x)", ""), ("xs", "ys.append(x)", "xs = ys"), ("xs", "ys[0] = x", "ys = zs = xs"),
+            ("box.rows", "row.rows.pop()", ""), ("xs or ys", "ys += [x]", ""), ("enumerate(xs)", "del xs[0]", ""),
+            ("xs.items()", "ys.update({})", "xs, k = ys, 1"), ("zip(ys, xs)", "zs.clear()", "xs = ys if x else zs"),
+        ):
+            text = f"def walk(xs, ys):\n    for x in {walked}:\n        {change}\n    {given or 'pass'}\n"
+            self.assertEqual(len(changed_in_loops(ast.parse(text).body[0])), 1, text)
+            text = text.replace(f"in {walked}:", f"in list({walked}):")
+            self.assertEqual(changed_in_loops(ast.parse(text).body[0]), [], text)
+
+
+def named(node):
+    """The names, and with a dot the attributes, that a loop walks, or that change, with this expression."""
+    if isinstance(node, ast.Name):
+        return {node.id}
+    if isinstance(node, ast.Attribute):
+        return {f".{node.attr}"}
+    if isinstance(node, ast.IfExp):
+        return named(node.body) | named(node.orelse)
+    if isinstance(node, ast.BoolOp):
+        return set().union(*map(named, node.values))
+    if isinstance(node, ast.Call) and isinstance(node.func, ast.Name) and node.func.id in ("enumerate", "zip", "reversed"):
+        return set().union(*map(named, node.args))
+    if isinstance(node, ast.Call) and isinstance(node.func, ast.Attribute) and node.func.attr in ("items", "keys", "values"):
+        return named(node.func.value)
+    return set()
+
+
+def with_other_names(names, function):
+    """These names, and all that are given to the same things anywhere in the function."""
+    given = []
+    for node in ast.walk(function):
+        for target in node.targets if isinstance(node, ast.Assign) else ():
+            pairs = [(target, node.value)]
+            if isinstance(target, ast.Tuple) and isinstance(node.value, ast.Tuple):
+                pairs = zip(target.elts, node.value.elts)
+            given.extend(named(left) | named(right) for left, right in pairs if named(left) and named(right))
+    for _ in given:
+        names = names.union(*[group for group in given if group & names])
+    return names
+
+
+def changed_in(node):
+    """The names of what a statement or a call changes."""
+    if isinstance(node, ast.Call) and isinstance(node.func, ast.Attribute) and node.func.attr in CHANGING_METHODS:
+        return named(node.func.value)
+    if isinstance(node, ast.AugAssign):
+        return named(node.target)
+    if isinstance(node, ast.Subscript) and not isinstance(node.ctx, ast.Load):
+        return named(node.value)
+    return set()
+
+
+def changed_in_loops(function):
+    """The lines on which a loop of a function changes what it walks."""
+    lines = []
+    for loop in ast.walk(function):
+        if isinstance(loop, ast.For):
+            walked, rows = [loop.iter], loop.body
+        elif isinstance(loop, COMPREHENSIONS):
+            walked, rows = [part.iter for part in loop.generators], [loop]
+        else:
+            continue
+        names = with_other_names(set().union(*map(named, walked)), function)
+        lines.extend(node.lineno for row in rows for node in ast.walk(row) if changed_in(node) & names)
+    return lines
 
 
 def bound_names(tree):
