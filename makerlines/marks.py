@@ -14,8 +14,8 @@ WORDS = ("", "x", "y", "z")
 class Act:
     """A call, with the word, with another word or with none, as it is in one field.
 
-    `very` is what its deeds leave of the very list that was held, `held` of what is held in the
-    end; these are two lists if one of the deeds is `fresh`.
+    `very` is what the call leaves of the very list that was held, `held` of what is held in the
+    end by the maker that is changed or made: another list if `is_apart`.
     """
 
     def __init__(self, call, field, word):
@@ -27,6 +27,10 @@ class Act:
         self.shares = field in same
         self.fresh = ("fresh", field) in deeds
         self.very, self.held = marks_of(deeds, field, word)
+        self.is_apart = self.fresh
+        if hand == "new" and not self.shares:
+            self.very = None
+            self.is_apart = True
 
 
 def marks_of(deeds, field, word):
@@ -91,7 +95,4 @@ def touched(act, content):
     The three are: the content of this very list behind it; whether the maker that has been
     changed or made still holds it; and the content of what that maker holds.
     """
-    held = marked(content, act.held)
-    if act.hand == "new" and not act.shares:
-        return content, False, held
-    return marked(content, act.very), not act.fresh, held
+    return marked(content, act.very), not act.is_apart, marked(content, act.held)

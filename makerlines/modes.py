@@ -1,4 +1,4 @@
-"""Modes that come to the same."""
+"""Modes that come to the same, and modes from which a call can be come to."""
 
 from makerlines.kinds import Kind
 
@@ -31,3 +31,14 @@ def mode_classes(kind):
 def class_behind(classes, move):
     """Return the class of the mode to which a move leads, -1 for a call that is refused."""
     return -1 if move == -1 else classes[move]
+
+
+def modes_ahead_of(kind, names):
+    """Return for each mode whether one of these calls can be let in from it on, perhaps behind others."""
+    modes = [any([kind.table[name][2][mode] != -1 for name in names]) for mode in range(kind.modes)]
+    for length in range(kind.modes):
+        modes = [
+            is_ahead or any([call[2][mode] != -1 and modes[call[2][mode]] for call in kind.steps])
+            for mode, is_ahead in enumerate(modes)
+        ]
+    return modes

@@ -151,11 +151,9 @@ def done_on(act, content, lists):
     if len(lists) == 0:
         return marked(content, act.held), lists
     held = marked(lists[content], act.held)
-    if act.hand == "new" and not act.shares:
-        return len(lists), (*lists, held)
     if act.very is not None:
         lists = (*lists[:content], act.very, *lists[content + 1:])
-    if act.fresh:
+    if act.is_apart:
         return len(lists), (*lists, held)
     return content, lists
 

@@ -48,6 +48,42 @@ def rich():
     return Kind(RICH_FIELDS, RICH_CALLS, modes=4)
 
 
+PART = ("part", "new", [3, 2, -1, -1], [("clear", "a")], ["a"])
+BRING = ("bring", "self", [-1, -1, -1, 3], [("add", "a")], [])
+TAKE = ("take", "self", [1, -1, 2, -1], [("strike", "a")], [])
+RENEW = ("renew", "self", [-1, -1, 2, -1], [("fresh", "a")], [])
+
+
+def passes(hand):
+    """The call of the next kinds that hands this or a new maker with a common list."""
+    return ("pass", hand, [-1, -1, 2, -1], [("clear", "a")], ["a"] if hand == "new" else [])
+
+
+def parts(hand):
+    """A kind that is told from the one with another hand by four rows in view at once: nine rows in all."""
+    end = ("end", "last", [-1, 1, -1, -1], [], [])
+    return Kind(SHARES_FIELDS, [PART, BRING, TAKE, RENEW, passes(hand), end], modes=4)
+
+
+def parts_late(hand):
+    """A kind that is told from the one with another hand by three rows in view behind a product: eight rows in all."""
+    calls = [
+        ("end", "last", [3, -1, -1, -1], [], ["a"]), ("part", "new", [-1, 2, -1, 1], [("clear", "a")], ["a"]),
+        ("bring", "self", [-1, 1, -1, -1], [("add", "a")], []),
+        ("take", "self", [-1, -1, 2, -1], [("strike", "a")], []), RENEW, passes(hand),
+    ]
+    return Kind(SHARES_FIELDS, calls, modes=4)
+
+
+def goes(same):
+    """A kind that is told from the one with another same by three rows in view, seven rows in all."""
+    return Kind(SHARES_FIELDS, [
+        ("hand", "new", [1, -1, -1, -1], [], ["a"]), ("share", "new", [2, -1, -1, -1], [], same),
+        ("go", "new", [3, -1, -1, -1], [], ["a"]), ("bring", "self", [-1, 1, -1, -1], [("add", "a")], []),
+        ("take", "self", [-1, -1, 2, -1], [("strike", "a")], []), ("end", "last", [-1, -1, -1, 3], [], ["a"]),
+    ], modes=4)
+
+
 def any_objects():
     """Objects of all sorts, new ones each time."""
     return [

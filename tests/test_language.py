@@ -162,10 +162,10 @@ def named(node):
         return named(node.body) | named(node.orelse)
     if isinstance(node, ast.BoolOp):
         return set().union(*map(named, node.values))
-    if isinstance(node, ast.Call) and isinstance(node.func, ast.Name) and node.func.id in ("enumerate", "zip", "reversed"):
-        return set().union(*map(named, node.args))
-    if isinstance(node, ast.Call) and isinstance(node.func, ast.Attribute) and node.func.attr in ("items", "keys", "values"):
-        return named(node.func.value)
+    if isinstance(node, ast.Call) and isinstance(node.func, ast.Name):
+        return set().union(*map(named, node.args)) if node.func.id in ("enumerate", "zip", "reversed") else set()
+    if isinstance(node, ast.Call) and isinstance(node.func, ast.Attribute):
+        return named(node.func.value) if node.func.attr in ("items", "keys", "values") else set()
     return set()
 
 

@@ -184,6 +184,80 @@ class Alike(unittest.TestCase):
         self.assertNotEqual(trials.shown(one, told[1]), trials.shown(other, told[1]))
         self.assertEqual(alike(one, other, "onward"), ("alike",))
 
+    def assert_rows(self, one, other, fewest):
+        """Both ways, just as many rows tell these kinds apart, and all programs of fewer rows are alike."""
+        for pair in ((one, other), (other, one)):
+            told = alike(*pair)
+            self.assertEqual((told[0], len(told[1])), ("rows", fewest))
+            self.assertNotEqual(trials.shown(one, told[1]), trials.shown(other, told[1]))
+            self.assertEqual(exact.fewest_calls(*pair, "forks", fewest - 1, limit=20000), (fewest - 1, True))
+
+    def test_a_row_that_counts_by_a_fresh_list_alone(self):
+        """It is handed by the first row, and gives it a list of its own in one kind."""
+        calls = [
+            ("part", "new", [1, -1, -1], [], ["a"]), ("bring", "self", [-1, 1, -1], [("add", "a")], []),
+            ("go", "self", [2, -1, -1], [], []), ("renew", "self", [-1, -1, 2], [("fresh", "a")], []),
+            ("end", "last", [-1, -1, 2], [], []),
+        ]
+        one, other = [
+            Kind([("a", "many", False)], [*calls, ("pass", hand, [-1, -1, 2], [], same)], modes=3)
+            for hand, same in (("self", []), ("new", ["a"]))
+        ]
+        self.assert_rows(one, other, 7)
+
+    def test_a_row_handed_by_one_that_is_parted_in_one_kind(self):
+        calls = [
+            ("part", "new", [1, -1, -1], [], ["a"]), ("renew", "self", [-1, 1, -1], [("fresh", "a")], []),
+            ("go", "new", [-1, 2, -1], [], ["a"]), ("bring", "self", [-1, -1, 2], [("add", "a")], []),
+            ("end", "last", [0, -1, -1], [], []),
+        ]
+        one = Kind([("a", "many", False)], calls, modes=3)
+        self.assert_rows(one, changed(one, "renew", deeds=[]), 6)
+        self.assert_rows(one, changed(one, "go", same=[]), 5)
+
+    def test_a_word_that_is_left_in_a_list_given_up(self):
+        one = Kind([("a", "many", False)], [
+            ("twin", "new", [0], [], ["a"]), ("build", "last", [0], [], []),
+            ("put", "self", [0], [("add", "a"), ("fresh", "a"), ("clear", "a")], []),
+        ])
+        self.assert_rows(one, one.own("twin", "a"), 4)
+
+    def test_modes_with_other_numbers(self):
+        for seed in range(150):
+            rng = random.Random(seed)
+            one = trials.role_kind(rng)
+            other = trials.twin_of(rng, one)
+            numbers = [0, *rng.sample(range(1, one.modes), one.modes - 1), -1]
+            renumbered = Kind(other.fields(), [
+                (name, hand, [numbers[moves[numbers.index(mode)]] for mode in range(one.modes)], deeds, same)
+                for name, hand, moves, deeds, same in other.calls()
+            ], modes=one.modes)
+            for callers in CALLERS:
+                self.assertEqual(alike(other, renumbered, callers), ("alike",))
+                told, found = alike(one, other, callers), alike(one, renumbered, callers)
+                self.assertEqual([len(x) for x in told], [len(x) for x in found])
+                self.assertEqual(len(told[-1]), len(found[-1]))
+
+    def test_many_rows_that_count(self):
+        """Kinds that are told apart by many rows, with as many in view at once as ever count."""
+        self.assert_rows(samples.parts("self"), samples.parts("new"), 9)
+        self.assert_rows(samples.parts_late("self"), samples.parts_late("new"), 8)
+        self.assert_rows(samples.goes(["a"]), samples.goes([]), 7)
+        self.assertEqual(alike(samples.parts("self"), samples.parts("new"), "onward"), ("alike",))
+
+    def test_many_rows_that_count_but_for_a_call(self):
+        """Without one of the calls that it takes, nothing tells these kinds apart."""
+        for one, other, names in (
+            (samples.parts("self"), samples.parts("new"), ("part", "bring", "take", "renew", "pass", "end")),
+            (samples.parts_late("self"), samples.parts_late("new"), ("end", "part", "bring", "renew", "pass")),
+            (samples.goes(["a"]), samples.goes([]), ("hand", "share", "go", "bring", "take", "end")),
+        ):
+            for name in names:
+                pair = [Kind(kind.fields(), [call for call in kind.calls() if call[0] != name], modes=4)
+                        for kind in (one, other)]
+                self.assertEqual(alike(*pair), ("alike",), name)
+                self.assertEqual(alike(*pair[::-1]), ("alike",), name)
+
     def test_forks_if_callers_are_not_told(self):
         for one, other in pairs_of_kinds(12):
             self.assertEqual(alike(one, other), alike(one=one, other=other, callers="forks"))
