@@ -14,6 +14,9 @@ Thus an unlike product stays unlike if all is left out of a program but the line
 - a row that has its maker, in one kind alone, in common with the first row or with the one of the
   later of those two calls, until a call on it gives this maker a fresh list. Without that, the
   later call might set in both kinds what it is to set in one.
+
+So a first row whose line can end in no product is left aside, and so is another row as soon as
+no call on its line can set or part what is in view.
 """
 
 from makerlines.behinds import ALONE, IN_VIEW, NOWHERE, Behind, with_numbers
